@@ -1,0 +1,1 @@
+"""Foldbough: answers kept folded along a tree of columns."""

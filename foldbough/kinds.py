@@ -1,0 +1,36 @@
+"""What whole numbers, names, columns and rows are; each asked of things of any kind."""
+
+MOST_COLUMNS = 8
+LONGEST_NAME = 8
+
+
+def is_whole(thing):
+    """Whether it is an int that is no truth."""
+    return isinstance(thing, int) and not isinstance(thing, bool)
+
+
+def is_name(thing):
+    """Whether it is a text of one to eight small letters."""
+    if not isinstance(thing, str) or not 1 <= len(thing) <= LONGEST_NAME:
+        return False
+    return all(["a" <= sign <= "z" for sign in thing])
+
+
+def is_column(thing, columns):
+    """Whether it is one of these columns, a list of names or a dict by names."""
+    # A thing of another kind might call itself equal to a name, or not be hashable.
+    return is_name(thing) and thing in columns
+
+
+def are_columns(thing):
+    """Whether it is a list of at most eight unlike names."""
+    if not isinstance(thing, list) or len(thing) > MOST_COLUMNS:
+        return False
+    return all([is_name(name) for name in thing]) and len(set(thing)) == len(thing)
+
+
+def is_row(thing, many):
+    """Whether it is a tuple of so many whole numbers."""
+    if not isinstance(thing, tuple) or len(thing) != many:
+        return False
+    return all([is_whole(value) for value in thing])
