@@ -34,3 +34,19 @@ def is_row(thing, many):
     if not isinstance(thing, tuple) or len(thing) != many:
         return False
     return all([is_whole(value) for value in thing])
+
+
+def is_number_below(thing, many):
+    """Whether it is a whole number from 0 on that is below many."""
+    return is_whole(thing) and 0 <= thing < many
+
+
+def are_weights(thing):
+    """Whether it is a dict of whole numbers by tuples (column, value), a name and a whole number."""
+    if not isinstance(thing, dict):
+        return False
+    return all([_is_column_with_value(key) and is_whole(weight) for key, weight in thing.items()])
+
+
+def _is_column_with_value(thing):
+    return isinstance(thing, tuple) and len(thing) == 2 and is_name(thing[0]) and is_whole(thing[1])

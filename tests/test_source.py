@@ -1,6 +1,7 @@
 """What the package's files keep to: kinds of files, sizes, signs, imports and where things are defined."""
 
 import ast
+import builtins
 import os
 import unittest
 
@@ -12,12 +13,24 @@ INTERFACE = {
                "NoPlace", "NoText", "NoLine", "NoColumn", "NoName", "NoTurn", "NoFit", "NoBunch", "TooMany"],
     "tables": ["Table", "joined", "kept_rows"],
     "trees": ["Tree", "fits", "tree_beside"],
+    "folds": ["Fold"],
+    "papers": ["fold_of", "single", "unfolded", "mix", "folded", "check_mixed", "road_to", "parting"],
+    "joins": ["fold_join", "keys_of", "places", "check_places"],
+    "healed": ["healed"],
+    "sums": ["counts", "roads", "through", "total", "sum_of", "product_of", "by", "sums_by"],
+    "costs": ["least", "greatest"],
+    "orders": ["row_at", "place_of", "first_from", "between"],
 }
 
 METHODS = {
     "Table": ["columns", "rows", "has", "with_row", "without_row", "of", "__len__", "__eq__", "__str__"],
     "Tree": ["columns", "pairs", "over", "above", "beneath", "children", "is_above", "__len__", "__eq__", "__str__"],
+    "Fold": ["tree", "bunches", "tops", "count", "weight", "has", "__len__", "__eq__", "__str__"],
 }
+
+# The builtins that the language rules let stand, but those that the program has no use for.
+BUILTINS = ["len", "range", "enumerate", "zip", "min", "max", "sum", "abs", "sorted", "reversed", "int", "str", "bool",
+            "list", "tuple", "dict", "set", "isinstance", "any", "all", "ValueError"]
 
 
 def files():
@@ -27,6 +40,12 @@ def files():
 def text_of(name):
     with open(os.path.join(PACKAGE, name), encoding="utf-8") as file:
         return file.read()
+
+
+def bound_names(tree):
+    """The names of all parameters and variables."""
+    names = {node.id for node in ast.walk(tree) if isinstance(node, ast.Name) and isinstance(node.ctx, ast.Store)}
+    return names | {node.arg for node in ast.walk(tree) if isinstance(node, ast.arg)}
 
 
 class Source(unittest.TestCase):
@@ -53,6 +72,36 @@ class Source(unittest.TestCase):
                 self.assertNotIsInstance(node, ast.Import, name)
                 if isinstance(node, ast.ImportFrom):
                     self.assertTrue(node.module.startswith("foldbough."), name)
+
+    def test_names_have_one_meaning(self):
+        for name in files():
+            tree = ast.parse(text_of(name))
+            taken = set(dir(builtins))
+            for node in ast.walk(tree):
+                if isinstance(node, ast.ImportFrom):
+                    taken.update(word.name for word in node.names)
+            classes = {node.name for node in ast.walk(tree) if isinstance(node, ast.ClassDef)}
+            functions = {node.name for node in tree.body if isinstance(node, ast.FunctionDef)}
+            self.assertEqual(bound_names(tree) & (taken | classes), set(), name)
+            self.assertEqual((classes | functions) & taken, set(), name)
+
+    def test_builtins_that_may_stand(self):
+        for name in files():
+            tree = ast.parse(text_of(name))
+            for node in ast.walk(tree):
+                if isinstance(node, ast.Name) and node.id in dir(builtins):
+                    self.assertIn(node.id, BUILTINS, name)
+
+    def test_what_the_language_rules_leave_out(self):
+        left_out = (ast.GeneratorExp, ast.Yield, ast.YieldFrom, ast.Global, ast.Try, ast.Div, ast.Pow, ast.Mod)
+        for name in files():
+            for node in ast.walk(ast.parse(text_of(name))):
+                self.assertNotIsInstance(node, left_out, name)
+                if isinstance(node, ast.Constant):
+                    self.assertNotIsInstance(node.value, (float, bytes, complex), name)
+                    self.assertNotIn("%", node.value if isinstance(node.value, str) else "", name)
+                if isinstance(node, ast.Compare) and any(isinstance(sign, (ast.Is, ast.IsNot)) for sign in node.ops):
+                    self.assertIsInstance(node.comparators[0], ast.Constant, name)
 
     def test_interface_is_defined_where_it_is_listed(self):
         for name, words in INTERFACE.items():
