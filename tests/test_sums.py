@@ -17,7 +17,8 @@ NO_ROWS = [fold_of(EMPTY, [], None), fold_of(ONE, [], None), fold_of(HAND_TREE, 
 # None of these is a dict of whole numbers by tuples of a name and a whole number.
 NO_WORTHS = [thing for thing in ODD if not isinstance(thing, dict)] + [{"a": 1}, None, 0, "", (), [], (("a", 1), 2)]
 NO_WORTHS += [{key: 1} for key in [None, 1, "a", (), ("a",), ("a", 1, 1), (1, "a"), ("a", None), ("a", "1"),
-                                   ("a", True), ("a", 1.0), ("a", (1,)), ("", 1), ("A", 1), ("abcdefghi", 1), (None, 1), (b"a", 1)]]
+                                   ("a", True), ("a", 1.0), ("a", (1,)), ("", 1), ("A", 1), ("abcdefghi", 1),
+                                   (None, 1), (b"a", 1)]]
 NO_WORTHS += [{("a", 1): thing} for thing in NO_WHOLES] + [{("a", 1): 1, ("x", 9): thing} for thing in NO_WHOLES]
 NO_WORTHS += [[(("a", 1), 2)], {("a", 1): 1, 3: 1}, {("x", 1): 1, ("a", False): 1}]
 
@@ -202,7 +203,8 @@ class Sums(unittest.TestCase):
             for thing in no_lists + [None, 0, "", "a", (), ("a",), {}, {"a": 1}, {"a"}]:
                 refused(self, NoColumns, product_of, fold, thing)
             for twice in [["a", "a"], ["x", "a", "b", "a"], ["x", "x"], [None, "x", "a", "b", "b"],
-                          ["a", ANYTHING, "a"], [1, 1], [0, 3, 0], ["a", None, None], [True, "x", True], [False, False]]:
+                          ["a", ANYTHING, "a"], [1, 1], [0, 3, 0], ["a", None, None],
+                          [True, "x", True], [False, False]]:
                 refused(self, NoColumns, product_of, fold, twice)
 
     def test_unlike_things_do_not_stand_twice(self):
