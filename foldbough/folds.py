@@ -5,7 +5,7 @@ from foldbough.kinds import is_row
 
 
 class Fold:
-    """The least folded thing of some rows; least_fold alone makes it, and it never changes."""
+    """The least folded thing of some rows; a store alone makes it, and it never changes."""
 
     def __init__(self, tree, bunches, tops):
         self._tree = tree
@@ -67,18 +67,6 @@ class Fold:
         return f"{self.count()} rows in {len(self._bunches)} bunches"
 
 
-def least_fold(tree, bunches, tops):
-    """The Fold of the rows of a folded thing along the tree."""
-    alike, kept = _without_twins(tree, bunches)
-    if tops is None or any([alike[top] is None for top in tops]):
-        return Fold(tree, [], None)
-    numbers = {}
-    for top in tops:
-        _number_from(alike[top], kept, numbers)
-    told = [(bunches[old][0], _renumbered(kept[old], numbers)) for old in numbers]
-    return Fold(tree, told, tuple([numbers[alike[top]] for top in tops]))
-
-
 def downward(tree, bunches):
     """The numbers of the bunches, each ahead of those of its parts."""
     # By columns, for a bunch may have a lower number than one that it is a part of.
@@ -86,6 +74,12 @@ def downward(tree, bunches):
     for number, bunch in enumerate(bunches):
         found[bunch[0]].append(number)
     return [number for column in tree.columns() for number in found[column]]
+
+
+def upward(fold):
+    """The bunches of a fold, as tuples (number, column, entries), each behind those of its parts."""
+    bunches = fold.bunches()
+    return [(number, bunches[number][0], bunches[number][1]) for number in downward(fold.tree(), bunches)[::-1]]
 
 
 def weighed(tree, bunches, weigh):
@@ -131,41 +125,15 @@ def rows_below(fold, row):
     return (below, True)
 
 
-def _without_twins(tree, bunches):
-    """What is left of bunches where those without rows are let go, and one stands for all with the same rows.
-
-    That is, for each bunch, the number of the one that stands for it, or None, and the entries of these, by it.
-    """
-    alike = [None] * len(bunches)
-    kept = {}
-    known = {}
-    for number in downward(tree, bunches)[::-1]:
-        column, entries = bunches[number]
-        told = _entries_with_rows(entries, alike)
-        if len(told) > 0:
-            alike[number] = known.setdefault((column, told), number)
-            kept[alike[number]] = told
-    return alike, kept
-
-
-def _entries_with_rows(entries, alike):
-    found = []
-    for value, parts in entries:
-        told = tuple([alike[part] for part in parts])
-        if None not in told:
-            found.append((value, told))
-    return tuple(found)
-
-
-def _number_from(bunch, kept, numbers):
-    """Give a bunch the next number, and behind it likewise all that are come to from it."""
-    if bunch in numbers:
-        return
-    numbers[bunch] = len(numbers)
-    for value, parts in kept[bunch]:
-        for part in parts:
-            _number_from(part, kept, numbers)
-
-
-def _renumbered(entries, numbers):
+def renumbered(entries, numbers):
+    """The entries, their parts by other numbers, told by those that they have."""
     return [(value, tuple([numbers[part] for part in parts])) for value, parts in entries]
+
+
+def first_row(fold, parts):
+    """The first of the rows of these bunches, one behind the other, of a fold or a store."""
+    row = ()
+    for part in parts:
+        value, beneath = fold.entries_of(part)[0]
+        row = row + (value,) + first_row(fold, beneath)
+    return row

@@ -1,8 +1,8 @@
 """Tables brought together, folded along a tree, and papers of places that show the answer."""
 
-from foldbough.errors import NoColumn, NoColumns, NoFit
+from foldbough.errors import NoColumns, NoFit
 from foldbough.folds import each_one, weighed
-from foldbough.kinds import is_column, is_number_below, is_row
+from foldbough.kinds import is_name_in, is_number_below, is_row
 from foldbough.stands import Stands, answer_of, come_places
 from foldbough.trees import fits
 
@@ -19,8 +19,7 @@ def fold_join(tables, tree):
 def keys_of(tables, tree, column):
     """The columns above this one that stand in a table together with it or with one beneath it."""
     stands = _checked_stands(tables, tree)
-    if not is_column(column, tree.columns()):
-        raise NoColumn(column)
+    tree.check_column(column)
     return stands.keys_at(column)
 
 
@@ -86,7 +85,7 @@ def _is_place(thing, stands, fold):
     if not isinstance(thing, tuple) or len(thing) != 3:
         return False
     column, keys, number = thing
-    if not is_column(column, stands.tree().columns()) or not is_row(keys, len(stands.keys_at(column))):
+    if not is_name_in(column, stands.tree().columns()) or not is_row(keys, len(stands.keys_at(column))):
         return False
     return number is None or (is_number_below(number, len(fold)) and fold.column_of(number) == column)
 

@@ -16,10 +16,10 @@ def is_name(thing):
     return all(["a" <= sign <= "z" for sign in thing])
 
 
-def is_column(thing, columns):
-    """Whether it is one of these columns, a list of names or a dict by names."""
+def is_name_in(thing, names):
+    """Whether it is one of these names, a list of them or a dict by them."""
     # A thing of another kind might call itself equal to a name, or not be hashable.
-    return is_name(thing) and thing in columns
+    return is_name(thing) and thing in names
 
 
 def are_columns(thing):
@@ -34,6 +34,11 @@ def is_row(thing, many):
     if not isinstance(thing, tuple) or len(thing) != many:
         return False
     return all([is_whole(value) for value in thing])
+
+
+def is_stretch(low, high):
+    """Whether these are a whole number and one that is not below it."""
+    return is_whole(low) and is_whole(high) and low <= high
 
 
 def is_number_below(thing, many):

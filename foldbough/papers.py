@@ -1,9 +1,10 @@
 """Folds of rows handed in, and papers that show why rows fold, why they don't, and that a fold is the least."""
 
-from foldbough.errors import NoBunch, NoColumn, NoFold, NoPaper, NoRow, TooMany
-from foldbough.folds import downward, least_fold
+from foldbough.errors import NoBunch, NoFold, NoPaper, NoRow, TooMany
+from foldbough.folds import downward, first_row
 from foldbough.healed import check_same_columns, healed
-from foldbough.kinds import is_column, is_number_below, is_row, is_whole
+from foldbough.kinds import is_name_in, is_number_below, is_row, is_whole
+from foldbough.stores import least_fold
 
 
 def fold_of(tree, bunches, tops):
@@ -44,8 +45,7 @@ def unfolded(fold, most=1000):
 
 def mix(tree, column, one, other):
     """The one row, with the other one's values in the column and all beneath it."""
-    if not is_column(column, tree.columns()):
-        raise NoColumn(column)
+    tree.check_column(column)
     for at, row in enumerate([one, other]):
         if not is_row(row, len(tree)):
             raise NoRow(at)
@@ -108,7 +108,7 @@ def _is_bunch(thing, tree, bunches):
     if not isinstance(thing, tuple) or len(thing) != 2:
         return False
     column, entries = thing
-    if not is_column(column, tree.columns()) or not isinstance(entries, list):
+    if not is_name_in(column, tree.columns()) or not isinstance(entries, list):
         return False
     children = tree.children(column)
     if not all([_is_entry(entry, children, bunches) for entry in entries]):
@@ -133,7 +133,7 @@ def _is_number_of(part, column, bunches):
     if not is_number_below(part, len(bunches)):
         return False
     bunch = bunches[part]
-    return isinstance(bunch, tuple) and len(bunch) == 2 and is_column(bunch[0], [column])
+    return isinstance(bunch, tuple) and len(bunch) == 2 and is_name_in(bunch[0], [column])
 
 
 def _places(tree, column):
@@ -196,7 +196,7 @@ def _is_mixed(thing, tree):
     if not isinstance(thing, tuple) or len(thing) != 4:
         return False
     word, column, one, other = thing
-    if not isinstance(word, str) or word != "mixed" or not is_column(column, tree.columns()):
+    if not isinstance(word, str) or word != "mixed" or not is_name_in(column, tree.columns()):
         return False
     return is_row(one, len(tree)) and is_row(other, len(tree))
 
@@ -206,15 +206,6 @@ def _check_bunch(fold, number):
         raise NoBunch(number)
 
 
-def _first_behind(fold, parts):
-    """The first row of these bunches' rows, one behind the other."""
-    row = ()
-    for part in parts:
-        value, beneath = fold.entries_of(part)[0]
-        row = row + (value,) + _first_behind(fold, beneath)
-    return row
-
-
 def _parting_of_unlike(fold, one, other):
     """What parting tells of two unlike bunches of one column."""
     ones = dict(fold.entries_of(one))
@@ -222,9 +213,9 @@ def _parting_of_unlike(fold, one, other):
     # In a Fold two bunches are never alike, so that the least value where they aren't is there.
     value = min([told for told in {**ones, **others} if ones.get(told) != others.get(told)])
     if value not in others:
-        return ("one", (value,) + _first_behind(fold, ones[value]))
+        return ("one", (value,) + first_row(fold, ones[value]))
     if value not in ones:
-        return ("other", (value,) + _first_behind(fold, others[value]))
+        return ("other", (value,) + first_row(fold, others[value]))
     which, row = _parting_behind(fold, ones[value], others[value])
     return (which, (value,) + row)
 
@@ -233,11 +224,11 @@ def _parting_behind(fold, ones, others):
     """What parting would tell of the rows behind a value, of unlike parts of the same columns."""
     if ones[1:] == others[1:]:
         which, row = _parting_of_unlike(fold, ones[0], others[0])
-        return (which, row + _first_behind(fold, ones[1:]))
-    first, second = _first_behind(fold, ones[:1]), _first_behind(fold, others[:1])
+        return (which, row + first_row(fold, ones[1:]))
+    first, second = first_row(fold, ones[:1]), first_row(fold, others[:1])
     if first < second:
-        return ("one", _first_behind(fold, ones))
+        return ("one", first_row(fold, ones))
     if second < first:
-        return ("other", _first_behind(fold, others))
+        return ("other", first_row(fold, others))
     which, row = _parting_behind(fold, ones[1:], others[1:])
     return (which, first + row)

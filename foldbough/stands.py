@@ -1,7 +1,7 @@
 """What tables let stand at the places along a tree, and the places that come."""
 
 from foldbough.errors import TooMany
-from foldbough.folds import least_fold
+from foldbough.stores import least_fold
 
 
 class Stands:

@@ -1,8 +1,8 @@
 """Counts and sums over a fold's rows, found in the fold."""
 
-from foldbough.errors import NoColumn, NoColumns, NoCosts
+from foldbough.errors import NoColumns, NoCosts
 from foldbough.folds import downward, each_one, product_at, weighed
-from foldbough.kinds import are_weights, is_column, is_whole
+from foldbough.kinds import are_weights, is_whole
 
 
 def counts(fold):
@@ -105,10 +105,9 @@ def _add_to_parts(around, upper, inside, parts):
 
 def _check_columns_in(fold, columns):
     """Refuse the first thing that is no column of the fold's tree."""
-    told = fold.tree().columns()
+    tree = fold.tree()
     for column in columns:
-        if not is_column(column, told):
-            raise NoColumn(column)
+        tree.check_column(column)
 
 
 def _has_twice(things):
@@ -116,10 +115,15 @@ def _has_twice(things):
     return any([_are_one(one, other) for at, one in enumerate(things) for other in things[at + 1:]])
 
 
-def _are_one(one, other):
-    # Only plain things are compared: one of another kind might call itself equal to all.
+def _are_one(one, other, deep=4):
+    """Whether two things are alike; looked into are lists and tuples, so deep."""
     if isinstance(one, str):
         return isinstance(other, str) and one == other
     if is_whole(one):
         return is_whole(other) and one == other
-    return (one is None and other is None) or (one is True and other is True) or (one is False and other is False)
+    # Things of unlike kinds are not compared: one of another kind might call itself equal to all, or fail.
+    if one.__class__.__name__ != other.__class__.__name__:
+        return False
+    if isinstance(one, (list, tuple)) and deep > 0:
+        return len(one) == len(other) and all([_are_one(a, b, deep - 1) for a, b in zip(one, other)])
+    return one in [other]

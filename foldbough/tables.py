@@ -1,7 +1,7 @@
 """Tables of whole numbers by named columns, and the plain answer of several."""
 
 from foldbough.errors import NoColumn, NoColumns, NoRow, NoStretch
-from foldbough.kinds import MOST_COLUMNS, are_columns, is_column, is_row, is_whole
+from foldbough.kinds import MOST_COLUMNS, are_columns, is_name_in, is_row, is_stretch
 
 
 class Table:
@@ -76,9 +76,9 @@ def joined(tables):
 
 def kept_rows(table, column, low, high):
     """The table of the rows whose value in the column is from low to high."""
-    if not is_column(column, table.columns()):
+    if not is_name_in(column, table.columns()):
         raise NoColumn(column)
-    if not is_whole(low) or not is_whole(high) or low > high:
+    if not is_stretch(low, high):
         raise NoStretch("a stretch goes from a whole number to one that is not below it")
     at = table.columns().index(column)
     return Table(table.columns(), [row for row in table.rows() if low <= row[at] <= high])

@@ -1,7 +1,7 @@
 """Trees of columns: their order, what stands above and beneath, and which tables they fit."""
 
 from foldbough.errors import NoColumn, NoColumns, NoTree
-from foldbough.kinds import MOST_COLUMNS, is_column, is_name
+from foldbough.kinds import MOST_COLUMNS, is_name, is_name_in
 
 
 class Tree:
@@ -22,12 +22,12 @@ class Tree:
 
     def over(self, column):
         """The column right above this one, or None."""
-        self._check_column(column)
+        self.check_column(column)
         return self._over[column]
 
     def above(self, column):
         """The columns above this one, from the top down."""
-        self._check_column(column)
+        self.check_column(column)
         found = []
         upper = self._over[column]
         while upper is not None:
@@ -37,22 +37,23 @@ class Tree:
 
     def beneath(self, column):
         """This column and all beneath it, in order."""
-        self._check_column(column)
+        self.check_column(column)
         return [name for name in self._columns if name == column or column in self.above(name)]
 
     def children(self, column=None):
         """The columns right beneath this one, in order; of None the tops."""
         if column is not None:
-            self._check_column(column)
+            self.check_column(column)
         return [name for name in self._columns if self._over[name] == column]
 
     def is_above(self, one, other):
         """Whether the one column is above the other."""
-        self._check_column(one)
+        self.check_column(one)
         return one in self.above(other)
 
-    def _check_column(self, column):
-        if not is_column(column, self._columns):
+    def check_column(self, column):
+        """Refuse what is no column of the tree."""
+        if not is_name_in(column, self._columns):
             raise NoColumn(column)
 
     def __len__(self):
@@ -105,7 +106,7 @@ def _is_pair(thing, overs):
     column, upper = thing
     if not is_name(column) or column in overs:
         return False
-    return upper is None or is_column(upper, overs)
+    return upper is None or is_name_in(upper, overs)
 
 
 def _in_order(overs, upper):

@@ -7,8 +7,8 @@ from foldbough.errors import NoCosts
 from foldbough.papers import fold_of, single
 from foldbough.trees import Tree
 from tests.helps import refused
-from tests.plain import BIG
-from tests.test_sums import EMPTY, NO_ROWS, NO_WORTHS, ONE, hand, some_folds, some_worths
+from tests.plain import BIG, EMPTY, NO_ROWS, ONE, hand, some_folds
+from tests.test_sums import NO_WORTHS, some_worths
 
 
 def plain_cost(tree, row, costs):

@@ -7,8 +7,7 @@ from foldbough.errors import NoPlace, NoRow
 from foldbough.orders import between, first_from, place_of, row_at
 from foldbough.papers import fold_of, single
 from tests.helps import NO_WHOLES, ODD, number_of, refused
-from tests.plain import BIG, HAND_ROWS
-from tests.test_sums import EMPTY, NO_ROWS, ONE, hand, some_folds
+from tests.plain import BIG, EMPTY, HAND_ROWS, NO_ROWS, ONE, hand, some_folds
 
 NO_BOUNDS = ODD + [None, 1, "abc", [1, 7, 5], (), (1,), (1, 7), (1, 7, 5, 5)]
 NO_BOUNDS += [(1, 7, thing) for thing in NO_WHOLES] + [(thing, 7, 5) for thing in NO_WHOLES]

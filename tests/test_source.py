@@ -20,12 +20,24 @@ INTERFACE = {
     "sums": ["counts", "roads", "through", "total", "sum_of", "product_of", "by", "sums_by"],
     "costs": ["least", "greatest"],
     "orders": ["row_at", "place_of", "first_from", "between"],
+    "walker": ["Walker"],
+    "algebra": ["kept", "without", "beside", "brought", "met", "within"],
+    "unions": ["united", "less", "put_in", "took_out"],
+    "turns": ["swung", "lowered", "lifted", "turned_to"],
+    "lightest": ["lightest"],
+    "keeper": ["Keeper"],
+    "texts": ["show_tree", "show_table", "show_fold", "read_tree", "read_table", "read_fold"],
+    "desk": ["Desk"],
 }
 
 METHODS = {
     "Table": ["columns", "rows", "has", "with_row", "without_row", "of", "__len__", "__eq__", "__str__"],
     "Tree": ["columns", "pairs", "over", "above", "beneath", "children", "is_above", "__len__", "__eq__", "__str__"],
     "Fold": ["tree", "bunches", "tops", "count", "weight", "has", "__len__", "__eq__", "__str__"],
+    "Walker": ["__init__", "row", "where", "step", "back", "to", "twin"],
+    "Keeper": ["__init__", "table", "ask", "drop", "tables", "questions", "deeds", "table_of", "asked", "fold", "part",
+               "put", "take", "undo", "twin"],
+    "Desk": ["__init__", "say"],
 }
 
 # The builtins that the language rules let stand, but those that the program has no use for.
@@ -93,7 +105,7 @@ class Source(unittest.TestCase):
                     self.assertIn(node.id, BUILTINS, name)
 
     def test_what_the_language_rules_leave_out(self):
-        left_out = (ast.GeneratorExp, ast.Yield, ast.YieldFrom, ast.Global, ast.Try, ast.Div, ast.Pow, ast.Mod)
+        left_out = (ast.GeneratorExp, ast.Yield, ast.YieldFrom, ast.Global, ast.Div, ast.Pow, ast.Mod)
         for name in files():
             for node in ast.walk(ast.parse(text_of(name))):
                 self.assertNotIsInstance(node, left_out, name)
@@ -102,6 +114,42 @@ class Source(unittest.TestCase):
                     self.assertNotIn("%", node.value if isinstance(node.value, str) else "", name)
                 if isinstance(node, ast.Compare) and any(isinstance(sign, (ast.Is, ast.IsNot)) for sign in node.ops):
                     self.assertIsInstance(node.comparators[0], ast.Constant, name)
+
+    def test_own_errors_alone_are_caught(self):
+        for name in files():
+            for node in ast.walk(ast.parse(text_of(name))):
+                if isinstance(node, ast.Try):
+                    self.assertEqual(node.finalbody, [], name)
+                    for handler in node.handlers:
+                        self.assertIn(handler.type.id, INTERFACE["errors"], name)
+
+    def test_stars_stand_beside_names_and_attributes(self):
+        for name in files():
+            for node in ast.walk(ast.parse(text_of(name))):
+                if isinstance(node, ast.Call) and any(isinstance(word, ast.Starred) for word in node.args):
+                    for word in node.args:
+                        plain = word.value if isinstance(word, ast.Starred) else word
+                        self.assertIsInstance(plain, (ast.Name, ast.Attribute), name)
+
+    def test_no_method_is_an_attribute_of_its_class(self):
+        for name in files():
+            for node in ast.parse(text_of(name)).body:
+                if isinstance(node, ast.ClassDef):
+                    methods = {part.name for part in node.body if isinstance(part, ast.FunctionDef)}
+                    told = {part.attr for part in ast.walk(node)
+                            if isinstance(part, ast.Attribute) and isinstance(part.ctx, ast.Store)}
+                    self.assertEqual(methods & told, set(), node.name)
+
+    def test_imports_run_in_no_circle(self):
+        found = {}
+        for name in files():
+            body = ast.parse(text_of(name)).body
+            found["foldbough." + name[:-3]] = {node.module for node in body if isinstance(node, ast.ImportFrom)}
+        while found:
+            free = [name for name, told in found.items() if not told & set(found)]
+            self.assertNotEqual(free, [], sorted(found))
+            for name in free:
+                del found[name]
 
     def test_interface_is_defined_where_it_is_listed(self):
         for name, words in INTERFACE.items():

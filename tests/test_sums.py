@@ -1,19 +1,15 @@
 """Points 5.1 to 5.3: counts, roads and through, sums of products, and sums by values."""
 
 import copy
-import random
 import unittest
 
 from foldbough.errors import NoColumn, NoColumns, NoCosts
-from foldbough.papers import fold_of, single, unfolded
+from foldbough.papers import fold_of, single
 from foldbough.sums import by, counts, product_of, roads, sum_of, sums_by, through, total
 from foldbough.trees import Tree
 from tests.helps import ANYTHING, BRITTLE, NO_NAMES, NO_WHOLES, ODD, name_of, refused
-from tests.plain import BIG, HAND_BUNCHES, HAND_TREE, rows_of_bunch, some_folded, some_tree, values_at
+from tests.plain import BIG, EMPTY, NO_ROWS, ONE, hand, rows_of_bunch, some_folds, values_at
 
-EMPTY = Tree([])
-ONE = Tree([("a", None)])
-NO_ROWS = [fold_of(EMPTY, [], None), fold_of(ONE, [], None), fold_of(HAND_TREE, HAND_BUNCHES, None)]
 # None of these is a dict of whole numbers by tuples of a name and a whole number.
 NO_WORTHS = [thing for thing in ODD if not isinstance(thing, dict)] + [{"a": 1}, None, 0, "", (), [], (("a", 1), 2)]
 NO_WORTHS += [{key: 1} for key in [None, 1, "a", (), ("a",), ("a", 1, 1), (1, "a"), ("a", None), ("a", "1"),
@@ -21,19 +17,6 @@ NO_WORTHS += [{key: 1} for key in [None, 1, "a", (), ("a",), ("a", 1, 1), (1, "a
                                    (None, 1), (b"a", 1)]]
 NO_WORTHS += [{("a", 1): thing} for thing in NO_WHOLES] + [{("a", 1): 1, ("x", 9): thing} for thing in NO_WHOLES]
 NO_WORTHS += [[(("a", 1), 2)], {("a", 1): 1, 3: 1}, {("x", 1): 1, ("a", False): 1}]
-
-
-def hand():
-    return fold_of(HAND_TREE, HAND_BUNCHES, (0,))
-
-
-def some_folds(seed, many, most=5, values=(-3, 0, 1, 2, 10)):
-    """Folds by chance, each with its rows."""
-    chance = random.Random(seed)
-    for _ in range(many):
-        tree = some_tree(chance, most)
-        fold = fold_of(tree, *some_folded(chance, tree, values))
-        yield chance, fold, unfolded(fold, 10 ** 9)
 
 
 def some_worths(chance, tree, values):
@@ -207,10 +190,24 @@ class Sums(unittest.TestCase):
                           [True, "x", True], [False, False]]:
                 refused(self, NoColumns, product_of, fold, twice)
 
+    def test_things_of_any_kind_that_stand_twice(self):
+        itself = []
+        itself.append(itself)
+        things = [thing for thing in NO_NAMES if not isinstance(thing, str)] + [2.5, 0, itself, [itself, (itself,)]]
+        for fold in [NO_ROWS[1], hand(), fold_of(EMPTY, [], ())]:
+            for thing in things:
+                refused(self, NoColumns, product_of, fold, [thing, thing])
+                refused(self, NoColumns, product_of, fold, ["x", thing, "a", BRITTLE, ANYTHING, thing])
+            for twice in [[("b",), ("b",)], [["b"], ["b"]], [2.5, 5 / 2], [{"a": 1}, {"a": 1}], [{1}, {1}], [b"a", b"a"],
+                          [(1, ("b", [None])), (1, ("b", [None]))], ["a", ("b",), "x", ("b",)]]:
+                refused(self, NoColumns, product_of, fold, twice)
+
     def test_unlike_things_do_not_stand_twice(self):
         # A truth is no number, and what calls itself equal to all is none of them.
         for things in [[1, 2], [1, ANYTHING], [0, True, None, False, 1, "x", ANYTHING, BRITTLE], [None, 0], [False, 0],
-                       [True, 1], [None, True], [None, False], [True, None], [True, False], ["x", ANYTHING]]:
+                       [True, 1], [None, True], [None, False], [True, None], [True, False], ["x", ANYTHING],
+                       [("b",), ("c",)], [("b",), ["b"]], [("b",), ("b", "b")], [(0,), (False,)], [2.5, 3.5],
+                       [[BRITTLE], ["b"]], [{1}, {2}], [object(), object()], [b"a", "y", ("a",), ["a"], {"a"}]]:
             for told in [things, things[::-1]]:
                 self.assertIs(name_of(self, NoColumn, product_of, hand(), told), told[0])
                 self.assertIs(name_of(self, NoColumn, product_of, hand(), ["a"] + told), told[0])
