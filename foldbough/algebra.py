@@ -19,7 +19,8 @@ class Both:
         self._store = Store()
         self._ways = {column: _places_beneath(column, tree, one.tree(), other.tree()) for column in tree.columns()}
         self._ways[None] = _places_beneath(None, tree, one.tree(), other.tree())
-        self._known = {}
+        self._known_parts = {}
+        self._known_bunches = {}
 
     def fold(self, one, other):
         """The Fold of both folds' rows brought together."""
@@ -30,6 +31,12 @@ class Both:
 
     def _parts(self, column, ones, others):
         """The parts right beneath a common column, None of those without rows; of None the tops."""
+        key = (column, ones, others)
+        if key not in self._known_parts:
+            self._known_parts[key] = self._find_parts(column, ones, others)
+        return self._known_parts[key]
+
+    def _find_parts(self, column, ones, others):
         found = []
         for one_at, other_at in self._ways[column]:
             if other_at is None:
@@ -42,17 +49,19 @@ class Both:
 
     def _bunch(self, one, other):
         """The number of the bunch of two bunches of a common column; None where it has no rows."""
-        if (one, other) not in self._known:
-            column = self._store.column_of(one)
-            others = self._store.parts_by_value(other)
-            entries = []
-            for value, parts in self._store.entries_of(one):
-                if value in others:
-                    told = self._parts(column, parts, others[value])
-                    if None not in told:
-                        entries.append((value, told))
-            self._known[(one, other)] = self._store.number_of(column, entries)
-        return self._known[(one, other)]
+        if (one, other) not in self._known_bunches:
+            self._known_bunches[(one, other)] = self._find_bunch(one, self._store.parts_by_value(other))
+        return self._known_bunches[(one, other)]
+
+    def _find_bunch(self, one, others):
+        column = self._store.column_of(one)
+        entries = []
+        for value, parts in self._store.entries_of(one):
+            if value in others:
+                told = self._parts(column, parts, others[value])
+                if None not in told:
+                    entries.append((value, told))
+        return self._store.number_of(column, entries)
 
 
 def kept(fold, column, low, high):

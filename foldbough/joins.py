@@ -3,7 +3,7 @@
 from foldbough.errors import NoColumns, NoFit
 from foldbough.folds import each_one, weighed
 from foldbough.kinds import is_name_in, is_number_below, is_row
-from foldbough.stands import Stands, answer_of, come_places
+from foldbough.stands import Stands, answer_of, come_places, keys_along
 from foldbough.trees import fits
 
 MOST_PLACES = 400
@@ -18,9 +18,9 @@ def fold_join(tables, tree):
 
 def keys_of(tables, tree, column):
     """The columns above this one that stand in a table together with it or with one beneath it."""
-    stands = _checked_stands(tables, tree)
+    _check_fit(tables, tree)
     tree.check_column(column)
-    return stands.keys_at(column)
+    return keys_along(tables, tree, column)
 
 
 def places(tables, tree):
@@ -51,12 +51,16 @@ def check_places(tables, tree, fold, paper):
 
 
 def _checked_stands(tables, tree):
+    _check_fit(tables, tree)
+    return Stands(tables, tree)
+
+
+def _check_fit(tables, tree):
     if sorted({name for table in tables for name in table.columns()}) != sorted(tree.columns()):
         raise NoColumns("the tree's columns are not just those of the tables")
     apart = fits(tree, tables)
     if apart is not None:
         raise NoFit(apart[0], apart[1])
-    return Stands(tables, tree)
 
 
 def _numbers_in(fold, bunches):

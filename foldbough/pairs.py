@@ -8,11 +8,17 @@ class Pairs:
 
     def __init__(self, store):
         self._store = store
+        self._known = {}
         self._alone = {}
         self._common = {}
 
     def first_alone(self, ones, others):
         """The first row of the ones, one behind the other, that the others don't have; None where they have all."""
+        if (ones, others) not in self._known:
+            self._known[(ones, others)] = self._find_alone(ones, others)
+        return self._known[(ones, others)]
+
+    def _find_alone(self, ones, others):
         found = None
         behind = ()
         for one, other in list(zip(ones, others))[::-1]:
@@ -42,10 +48,10 @@ class Pairs:
         if one == other:
             return None
         if (one, other) not in self._alone:
-            self._alone[(one, other)] = self._find_alone(one, self._store.parts_by_value(other))
+            self._alone[(one, other)] = self._find_alone_in(one, self._store.parts_by_value(other))
         return self._alone[(one, other)]
 
-    def _find_alone(self, one, others):
+    def _find_alone_in(self, one, others):
         for value, parts in self._store.entries_of(one):
             if value not in others:
                 return (value,) + first_row(self._store, parts)

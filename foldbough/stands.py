@@ -10,7 +10,7 @@ class Stands:
     def __init__(self, tables, tree):
         self._tree = tree
         self._barred = any([len(table.columns()) == 0 and len(table) == 0 for table in tables])
-        self._keys = {column: _keys_along(tables, tree, column) for column in tree.columns()}
+        self._keys = {column: keys_along(tables, tree, column) for column in tree.columns()}
         self._lets = {}
         for column in tree.columns():
             having = [table for table in tables if column in table.columns()]
@@ -69,7 +69,7 @@ def answer_of(stands, bunches):
     return least_fold(stands.tree(), bunches, None if stands.is_barred() else tops)
 
 
-def _keys_along(tables, tree, column):
+def keys_along(tables, tree, column):
     """The columns above that stand in a table together with the column or one beneath it."""
     beneath = tree.beneath(column)
     near = []
@@ -81,13 +81,12 @@ def _keys_along(tables, tree, column):
 
 def _lets_of(table, column, keys):
     """Which of the keys the table has, by their places among them, and by their values those of the column."""
-    shared = [name for name in keys if name in table.columns()]
+    columns = table.columns()
+    shared = [name for name in keys if name in columns]
+    places = [columns.index(name) for name in shared + [column]]
     values = {}
-    for row in table.of(shared + [column]).rows():
-        upper = row[:-1]
-        if upper not in values:
-            values[upper] = {}
-        values[upper][row[-1]] = True
+    for row in sorted({tuple([told[place] for place in places]) for told in table.rows()}):
+        values.setdefault(row[:-1], {})[row[-1]] = True
     return ([keys.index(name) for name in shared], values)
 
 

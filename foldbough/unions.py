@@ -8,7 +8,7 @@ from foldbough.stores import Store
 
 
 class Work:
-    """Makes one of two bunches of a column, each two once, by a rule that tells of tuples of bunches.
+    """Makes one of two bunches of a column, or of two tuples of bunches, each two once, by a rule.
 
     The rule tells, of the bunches of the same columns, the ones and the others, what comes of their rows, one behind
     the other: ("fold", parts), the parts None where there are no rows; ("mixed", column, row, row), where they don't
@@ -20,10 +20,16 @@ class Work:
         self._pairs = Pairs(store)
         self._rule = rule
         self._with_others = with_others
-        self._known = {}
+        self._known_parts = {}
+        self._known_bunches = {}
 
     def parts(self, ones, others):
         """What comes of the rows of these bunches: ("fold", parts) or ("mixed", column, row, row)."""
+        if (ones, others) not in self._known_parts:
+            self._known_parts[(ones, others)] = self._find_parts(ones, others)
+        return self._known_parts[(ones, others)]
+
+    def _find_parts(self, ones, others):
         rule = self._rule
         told = rule(self._store, self._pairs, ones, others)
         if told[0] != "part":
@@ -37,9 +43,9 @@ class Work:
 
     def _bunch(self, one, other):
         """What comes of two bunches: ("fold", number) or ("mixed", column, row, row)."""
-        if (one, other) not in self._known:
-            self._known[(one, other)] = self._find_bunch(one, other)
-        return self._known[(one, other)]
+        if (one, other) not in self._known_bunches:
+            self._known_bunches[(one, other)] = self._find_bunch(one, other)
+        return self._known_bunches[(one, other)]
 
     def _find_bunch(self, one, other):
         ones, others = self._store.parts_by_value(one), self._store.parts_by_value(other)

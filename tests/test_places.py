@@ -10,6 +10,7 @@ from foldbough.tables import Table
 from foldbough.trees import Tree
 from tests.helps import NO_NAMES, NO_WHOLES, ODD
 from tests.plain import answer, rows_of_bunch, some_folded, some_tables, some_tree
+from tests.plain_places import plain_beneath, plain_part, plain_places, plain_values
 
 EMPTY = Tree([])
 TREE = Tree([("a", None), ("b", "a"), ("c", "b"), ("d", "a")])
@@ -18,61 +19,6 @@ TABLES = [Table(["a", "b"], [(1, 1), (1, 2), (2, 1), (3, 2), (4, 2)]), Table(["c
           Table(["d", "a"], [(7, 1), (8, 1), (7, 2), (9, 4), (9, 3)])]
 TOLD = [("a", (), 0), ("b", (1,), 1), ("b", (2,), 1), ("b", (3,), None), ("b", (4,), None), ("c", (1,), 2),
         ("c", (2,), None), ("d", (1,), 3), ("d", (2,), 4)]
-
-
-def plain_part(tables, tree, column, keys):
-    """The rows over the column and all beneath it that with the keys go with a row of each table that has some."""
-    beneath = tree.beneath(column)
-    inner = Tree([(name, upper if upper in beneath else None) for name, upper in tree.pairs() if name in beneath])
-    named = dict(zip(keys_of(tables, tree, column), keys))
-    found = []
-    for table in tables:
-        columns = table.columns()
-        if set(columns) & set(beneath):
-            upper = [name for name in columns if name in tree.above(column)]
-            rows = [row for row in table.rows() if all(row[columns.index(name)] == named[name] for name in upper)]
-            found.append(Table(columns, rows).of([name for name in columns if name in beneath]))
-    return answer(found, inner)
-
-
-def plain_values(tables, tree, column, keys):
-    """The values that may stand at a place."""
-    named = dict(zip(keys_of(tables, tree, column), keys))
-    values = None
-    for table in tables:
-        columns = table.columns()
-        if column in columns:
-            upper = [name for name in columns if name in tree.above(column)]
-            here = {row[columns.index(column)] for row in table.rows()
-                    if all(row[columns.index(name)] == named[name] for name in upper)}
-            values = here if values is None else values & here
-    return sorted(values)
-
-
-def plain_beneath(tables, tree, column, keys, value):
-    """The children's places to which one comes by the value."""
-    named = dict(zip(keys_of(tables, tree, column), keys))
-    named[column] = value
-    return [(child, tuple(named[name] for name in keys_of(tables, tree, child))) for child in tree.children(column)]
-
-
-def plain_places(tables, tree):
-    """The places with their parts, gone through by the words: those that lie in the answer, and those without rows."""
-    rows = answer(tables, tree)
-    come, lie = {(top, ()): True for top in tree.children()}, {}
-    if rows:
-        lie = dict(come)
-    for column in tree.columns():
-        for place in [place for place in come if place[0] == column]:
-            for value in plain_values(tables, tree, *place):
-                beneath = plain_beneath(tables, tree, *place, value)
-                come.update((part, True) for part in beneath)
-                if place in lie and all(plain_part(tables, tree, *part) for part in beneath):
-                    lie.update((part, True) for part in beneath)
-    parts = {place: plain_part(tables, tree, *place) for place in come}
-    told = [place for place in come if place in lie or not parts[place]]
-    told.sort(key=lambda place: (tree.columns().index(place[0]), place[1]))
-    return [(place, parts[place]) for place in told], len(come)
 
 
 class Places(unittest.TestCase):
