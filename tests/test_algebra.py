@@ -9,8 +9,8 @@ from foldbough.papers import fold_of, folded, single, unfolded
 from foldbough.tables import Table, joined, kept_rows
 from foldbough.trees import Tree
 from tests.helps import NO_NAMES, NO_WHOLES, name_of, refused
-from tests.plain import (BIG, EMPTY, HAND_ROWS, HAND_TREE, NO_ROWS, ONE, UNIT, check_fold, hand, some_folded, some_folds,
-                         some_tree)
+from tests.plain import (BIG, EMPTY, HAND_ROWS, HAND_TREE, NO_ROWS, ONE, UNIT, check_fold, hand, some_folded,
+                         some_folds, some_tree)
 
 WAY = Tree([("a", None), ("b", "a"), ("c", "b")])
 VALUES = (-3, 0, 1, 2, 10)
@@ -297,7 +297,7 @@ class MetAndWithin(unittest.TestCase):
 
     def test_the_first_row_by_the_order_of_all_columns(self):
         tree = Tree([("a", None), ("b", None), ("c", None)])
-        one = fold_of(tree, [("a", [(1, ()), (2, ())]), ("b", [(1, ()), (2, ())]), ("c", [(1, ()), (2, ())])], (0, 1, 2))
+        one = fold_of(tree, [(name, [(1, ()), (2, ())]) for name in "abc"], (0, 1, 2))
         for at, column in enumerate("abc"):
             row = tuple(2 if place == at else 1 for place in range(3))
             self.assertEqual(within(one, kept(one, column, 1, 1)), row)

@@ -29,19 +29,22 @@ FORTY = "9" * 40
 
 STORY = [
     ("tables", "-"), ("questions", "-"), ("deeds", "-"), ("table r a,b", "ok"), ("table s b,c", "ok"),
-    ("table t -", "ok"), ("tables", "r s t"), ("ask q r,s b(a,c)", "ok"), ("ask e - -", "ok"), ("ask q r,r,t b(a)", None),
-    ("ask p r,r,t a(b)", "ok"), ("questions", "e p q"), ("put r 1,7", "p a -; p b 1"), ("put s 7,5", "q b -; q c 7"),
+    ("table t -", "ok"), ("tables", "r s t"), ("ask q r,s b(a,c)", "ok"), ("ask e - -", "ok"),
+    ("ask q r,r,t b(a)", None), ("ask p r,r,t a(b)", "ok"), ("questions", "e p q"),
+    ("put r 1,7", "p a -; p b 1"), ("put s 7,5", "q b -; q c 7"),
     ("put s 7,-6", "q b -; q c 7"), ("put r 2,7", "p a -; p b 2; q b -; q a 7"), ("put t -", "-"), ("put r 2,7", "-"),
     ("show r", "a,b\n1,7\n2,7"), ("show t", "\n"), ("fold q", "b(a,c)\n0\nb 7:1,2\na 1 2\nc -6 5"),
     ("count q", "4 3 5"), ("rows q", "7,1,-6; 7,1,5; 7,2,-6; 7,2,5"), ("row q 2", "7,2,-6"), ("place q 7,2,-6", "2"),
     ("place q 7,2", "none"), ("place q -", "none"), ("place e -", "0"), ("sum q c", "-2"), ("by q a", "1:2 2:2"),
     ("by q c", "-6:2 5:2"), ("turn q a(b(c))", "fold 3 5"), ("turn q a,b,c", "fold 3 5"), ("light q", "b,c,a"),
     ("light p", "a,b"), ("part q c 7", "2"), ("part q b -", "4"), ("part q a 8", "0"), ("rows p", "1,7; 2,7"),
-    ("rows e", "-"), ("row e 0", "-"), ("fold e", "\n"), ("count e", "1 0 0"), ("light e", ""), ("turn e -", "fold 0 0"),
+    ("rows e", "-"), ("row e 0", "-"), ("fold e", "\n"), ("count e", "1 0 0"), ("light e", ""),
+    ("turn e -", "fold 0 0"),
     ("put r 2,8", "p a -; p b 2"), ("turn p a,b", "mixed"), ("light p", "a(b)"), ("undo", "p a -; p b 2"),
     ("take r 1,7", "p a -; p b 1; q b -; q a 7"), ("undo", "p a -; p b 1; q b -; q a 7"),
     ("deeds", "put r 1,7; put s 7,5; put s 7,-6; put r 2,7; put t -; put r 2,7"),
-    ("take t -", "-"), ("rows p", "-"), ("by p a", "-"), ("count p", "0 0 0"), ("fold p", "a(b)\n-"), ("light p", "a,b"),
+    ("take t -", "-"), ("rows p", "-"), ("by p a", "-"), ("count p", "0 0 0"), ("fold p", "a(b)\n-"),
+    ("light p", "a,b"),
     ("drop q", "ok"), ("questions", "e p"), ("ask q - -", "ok"), ("drop q", "ok"), ("show r", "a,b\n1,7\n2,7"),
 ]
 
@@ -129,7 +132,8 @@ ANSWERS = {
     "row": lambda keeper, name, number: written(row_at(keeper.fold(name), int(number))),
     "place": lambda keeper, name, row: str(place_of(keeper.fold(name), numbers_in(row))).lower(),
     "sum": lambda keeper, name, column: str(sum_of(keeper.fold(name), column)),
-    "by": lambda keeper, name, column: " ".join(f"{value}:{many}" for value, many in by(keeper.fold(name), column)) or "-",
+    "by": lambda keeper, name, column: " ".join(f"{value}:{many}"
+                                                for value, many in by(keeper.fold(name), column)) or "-",
     "turn": lambda keeper, name, tree: of_turn(turned_to(keeper.fold(name), tree_in(tree))),
     "light": lambda keeper, name: str(lightest(keeper.fold(name))[0].tree()),
 }
@@ -261,7 +265,7 @@ class ByChance(unittest.TestCase):
             return str(chance.randrange(-1, 5))
         if kind == "row":
             return ",".join(str(chance.randrange(-1, 2)) for _ in range(chance.choice([0, 1, 1, 2]))) or "-"
-        return chance.choice(["-", "a", "a(b)", "b(a)", "b(a,c)", "a(b(c))", "a,b", "c,a", "b(c)", "b", "a(c)", "c(b(a))"])
+        return chance.choice(["-", "a", "a(b)", "b(a)", "b(a,c)", "a(b(c))", "a,b", "c,a", "b(c)", "b", "c(b(a))"])
 
     def some_line(self, chance, wrong=True):
         word = chance.choice(list(KINDS) * 2 + ["put"] * 24 + ["ask"] * 4)
@@ -309,7 +313,8 @@ class ByChance(unittest.TestCase):
         for _ in range(3000):
             line = self.some_line(chance)
             at = chance.randrange(len(line) + 1)
-            line = line[:at] + chance.choice([" ", ",", "-", "(", "0", "a", "\n", "Z", ""]) + line[at + chance.randrange(2):]
+            sign = chance.choice([" ", ",", "-", "(", "0", "a", "\n", "Z", ""])
+            line = line[:at] + sign + line[at + chance.randrange(2):]
             if plain_wrong(line) is None:
                 told = told_of(line, desk)
                 self.assertTrue(isinstance(told, str) or told[0] is not NoLine, line)

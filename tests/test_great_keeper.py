@@ -53,7 +53,8 @@ class Great(unittest.TestCase):
                 tree = keeper.asked(question)[1]
                 behind = self.tables_of(keeper, question)
                 come = {**plain_come(tables[question], tree), **plain_come(behind, tree)}
-                self.check_told(keeper, question, come, [place[1:] for place in told if place[0] == question], name, row)
+                found = [place[1:] for place in told if place[0] == question]
+                self.check_told(keeper, question, come, found, name, row)
                 self.assertEqual(keeper.fold(question), fold_join(behind, tree))
         self.assertGreater(keeper.fold("turned").count(), 10 ** 7)
         while keeper.deeds():

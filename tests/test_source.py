@@ -44,6 +44,11 @@ METHODS = {
 BUILTINS = ["len", "range", "enumerate", "zip", "min", "max", "sum", "abs", "sorted", "reversed", "int", "str", "bool",
             "list", "tuple", "dict", "set", "isinstance", "any", "all", "ValueError"]
 
+# The methods of builtin values that the language rules let stand.
+OF_BUILTINS = """append clear copy count endswith extend find get index insert isalnum isalpha isdigit islower isspace
+isupper items join keys ljust lower lstrip partition pop remove replace reverse rfind rjust rpartition rsplit rstrip
+setdefault split splitlines startswith strip update upper values zfill bit_length""".split()
+
 
 def files():
     return [name for name in sorted(os.listdir(PACKAGE)) if name != "__pycache__"]
@@ -103,6 +108,17 @@ class Source(unittest.TestCase):
             for node in ast.walk(tree):
                 if isinstance(node, ast.Name) and node.id in dir(builtins):
                     self.assertIn(node.id, BUILTINS, name)
+
+    def test_methods_that_may_be_called(self):
+        trees = [ast.parse(text_of(name)) for name in files()]
+        own = {part.name for tree in trees for node in tree.body if isinstance(node, ast.ClassDef)
+               for part in node.body if isinstance(part, ast.FunctionDef)}
+        for tree in trees:
+            for node in ast.walk(tree):
+                if isinstance(node, ast.Call) and isinstance(node.func, ast.Attribute):
+                    self.assertIn(node.func.attr, OF_BUILTINS + sorted(own))
+                    if node.func.attr in OF_BUILTINS:
+                        self.assertEqual(node.keywords, [], node.func.attr)
 
     def test_what_the_language_rules_leave_out(self):
         left_out = (ast.GeneratorExp, ast.Yield, ast.YieldFrom, ast.Global, ast.Div, ast.Pow, ast.Mod)

@@ -198,8 +198,8 @@ class Sums(unittest.TestCase):
             for thing in things:
                 refused(self, NoColumns, product_of, fold, [thing, thing])
                 refused(self, NoColumns, product_of, fold, ["x", thing, "a", BRITTLE, ANYTHING, thing])
-            for twice in [[("b",), ("b",)], [["b"], ["b"]], [2.5, 5 / 2], [{"a": 1}, {"a": 1}], [{1}, {1}], [b"a", b"a"],
-                          [(1, ("b", [None])), (1, ("b", [None]))], ["a", ("b",), "x", ("b",)]]:
+            for twice in [[("b",), ("b",)], [["b"], ["b"]], [2.5, 5 / 2], [{"a": 1}, {"a": 1}], [{1}, {1}],
+                          [b"a", b"a"], [(1, ("b", [None])), (1, ("b", [None]))], ["a", ("b",), "x", ("b",)]]:
                 refused(self, NoColumns, product_of, fold, twice)
 
     def test_unlike_things_do_not_stand_twice(self):

@@ -4,7 +4,9 @@ import itertools
 import unittest
 
 from foldbough.errors import NoColumn, NoColumns, NoTurn, TooMany
-from foldbough.papers import fold_of, single, unfolded
+from foldbough.papers import fold_of, folded, single, unfolded
+from foldbough.tables import Table
+from foldbough.texts import read_tree
 from foldbough.trees import Tree
 from foldbough.turns import lifted, lowered, swung, turned_to
 from tests.helps import NO_NAMES, name_of, refused
@@ -182,6 +184,15 @@ class Lifted(unittest.TestCase):
             fold = fold_of(PAIR, [("a", [(1, first), (2, second)]), ("b", [(5, ())]), ("b", [(5, ()), (6, ())])], (0,))
             other = Tree([("a", None), ("b", None)])
             self.assertEqual(check_one_of_both(self, lifted(fold, "b"), other, unfolded(fold)), "mixed")
+
+    def test_mixed_far_beneath_with_more_beside(self):
+        for text in ["r,s(t,u(v,a(b,c)))", "s(u(a(c,b),w),x),y"]:
+            tree = read_tree(text)
+            rows = [tuple({"a": a, "c": c}.get(name, at) for at, name in enumerate(tree.columns()))
+                    for a, c in [(1, 5), (2, 5), (2, 6)]]
+            fold = folded(Table(tree.columns(), rows), tree)[1]
+            other = tree_from(plain_lifted(forest_of(tree), "c"))
+            self.assertEqual(check_one_of_both(self, lifted(fold, "c"), other, along(rows, tree, other)), "mixed")
 
     def test_by_chance(self):
         came = {"fold": 0, "mixed": 0}

@@ -194,7 +194,7 @@ class OneFold(unittest.TestCase):
                 part = folded(table, line)[1]
                 if fold is None:
                     fold = part
-                elif all(name not in fold.tree().columns() or fold.tree().over(name) == line.over(name) for name in way):
+                elif all(fold.tree().over(name) == line.over(name) for name in way if name in fold.tree().columns()):
                     fold = brought(fold, part)
                 else:
                     fold = None
