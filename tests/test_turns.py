@@ -2,6 +2,7 @@
 
 import itertools
 import unittest
+import unittest.mock
 
 from foldbough.errors import NoColumn, NoColumns, NoTurn, TooMany
 from foldbough.papers import fold_of, folded, single, unfolded
@@ -11,7 +12,7 @@ from foldbough.trees import Tree
 from foldbough.turns import lifted, lowered, swung, turned_to
 from tests.helps import NO_NAMES, name_of, refused
 from tests.plain import (BIG, EMPTY, HAND_BUNCHES, HAND_ROWS, HAND_TREE, NO_ROWS, ONE, UNIT, along, check_fold,
-                         check_one_of_both, hand, some_folds, tree_of)
+                         check_one_of_both, hand, plain_fold, some_folds, tree_of)
 
 TREE = Tree([("a", None), ("b", "a"), ("d", "b"), ("e", "b"), ("c", "a"), ("f", None), ("g", "f")])
 PAIR = Tree([("a", None), ("b", "a")])
@@ -362,6 +363,38 @@ class Turned(unittest.TestCase):
         told.bunches().clear()
         self.assertEqual(told, again)
         self.assertEqual(fold_of(HAND_TREE, HAND_BUNCHES, (0,)), hand())
+
+
+class OtherLimits(unittest.TestCase):
+    """That bunches are counted just so, by other limits than four hundred, which small folds come to as well."""
+
+    def test_by_chance(self):
+        came = {True: 0, False: 0}
+        for chance, fold, rows in some_small_folds(107, 400):
+            tree = fold.tree()
+            with unittest.mock.patch("foldbough.turns.MOST_BUNCHES", chance.randrange(4, 9)) as most:
+                for column, under in itertools.product(tree.columns(), repeat=2):
+                    if column == under and tree.over(column) is not None:
+                        other = tree_from(plain_swung(forest_of(tree), column))
+                        came[self.is_refused(most, rows, tree, other, swung, fold, column)] += 1
+                    if may_be_lowered(tree, column, under):
+                        moved = forest_of(tree, column)
+                        other = tree_from(plain_lowered(forest_of(tree), column, under, moved))
+                        came[self.is_refused(most, rows, tree, other, lowered, fold, column, under)] += 1
+                other = tree_of(chance, tree.columns())
+                names = other.columns()
+                way = Tree([(name, names[at - 1] if at else None) for at, name in enumerate(names)])
+                came[self.is_refused(most, rows, tree, way, turned_to, fold, other)] += 1
+        self.assertGreater(min(came.values()), 100)
+
+    def is_refused(self, most, rows, tree, other, call, *handed):
+        """Whether the call is refused, as it is just where there are more bunches of the rows along the other tree."""
+        bunches, _ = plain_fold(other, along(rows, tree, other))
+        if len(bunches) > most:
+            self.assertEqual(refused(self, TooMany, call, *handed).many, most)
+        else:
+            call(*handed)
+        return len(bunches) > most
 
 
 def check_mixed_ends(told):
